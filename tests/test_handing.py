@@ -1,0 +1,104 @@
+"""Point [2], of stage 1: what is handed in stays as it is, what is told is the asker's own."""
+
+import copy
+import unittest
+
+from trudge import errors
+from trudge.effects import changes_by, effect_of, is_effect, joined, mirrored, passed, repeated
+from trudge.steps import levels_along, stepped
+
+ASKINGS = (
+    (stepped, (10, 4, 3)),
+    (stepped, (10, 4, -5)),
+    (levels_along, (10, 4, [3, -7, 20, -11, 5])),
+    (levels_along, (10, 4, [])),
+    (effect_of, (10, [3, -7, 20, -10])),
+    (effect_of, (10, [-11])),
+    (effect_of, (10, [])),
+    (is_effect, (10, (3, -2, 6))),
+    (is_effect, (10, [3, -2, 6])),
+    (is_effect, (10, ([3], {}, [6]))),
+    (changes_by, (10, (3, -2, 6))),
+    (passed, ((3, -2, 6), 5)),
+    (passed, ((3, -2, 6), 2)),
+    (joined, ((3, -3, 7), (7, -7, 3))),
+    (joined, ((3, -3, 7), (8, -8, 2))),
+    (repeated, (10, (3, -2, 6), 3)),
+    (repeated, (10, (3, -2, 6), 10 ** 24)),
+    (mirrored, (10, (3, -2, 6))),
+)
+
+
+def spoil(told):
+    if isinstance(told, list):
+        told.append("spoilt")
+        told[0] = "spoilt"
+
+
+class HandingTest(unittest.TestCase):
+    def test_nothing_handed_in_is_changed(self):
+        for ask, handed in ASKINGS:
+            ahead = copy.deepcopy(handed)
+            ask(*handed)
+            self.assertEqual(handed, ahead, ask)
+
+    def test_two_like_askings_tell_the_same(self):
+        for ask, handed in ASKINGS:
+            self.assertEqual(repr(ask(*handed)), repr(ask(*copy.deepcopy(handed))), ask)
+
+    def test_told_lists_are_the_askers_own(self):
+        for ask, handed in ASKINGS:
+            told = ask(*handed)
+            kept = copy.deepcopy(told)
+            ahead = copy.deepcopy(handed)
+            spoil(told)
+            self.assertEqual(handed, ahead, ask)
+            self.assertEqual(ask(*handed), kept, ask)
+
+    def test_told_lists_are_new(self):
+        for ask, handed in ASKINGS:
+            told = ask(*handed)
+            if isinstance(told, list):
+                self.assertIsNot(told, ask(*handed))
+                self.assertFalse([thing for thing in handed if thing is told])
+
+    def test_what_is_done_behind_the_call_changes_nothing(self):
+        changes = [3, -7, 20]
+        levels = levels_along(10, 4, changes)
+        effect = effect_of(10, changes)
+        changes.append(-11)
+        changes[0] = -5
+        self.assertEqual(levels, [4, 7, 0, 10])
+        self.assertEqual(effect, (4, 16, 10))
+
+    def test_told_kinds(self):
+        self.assertIs(levels_along(10, 4, [1]).__class__, list)
+        self.assertIs(changes_by(10, (3, -2, 6)).__class__, list)
+        for effect in (effect_of(10, [1]), joined((0, 0, 5), (0, 0, 5)), repeated(5, (0, 0, 5), 2),
+                       mirrored(5, (0, 0, 5))):
+            self.assertIs(effect.__class__, tuple)
+            self.assertEqual([part.__class__ for part in effect], [int] * 3)
+
+    def test_what_was_told_may_be_handed_in_whatever_its_size(self):
+        store = 10 ** 20
+        effect = repeated(store, (5, 10 ** 60 - 1, 9), 10 ** 24)
+        for times in range(6):
+            effect = repeated(store, effect, 10 ** 24)
+        gain = (10 ** 60 - 1) * 10 ** 168
+        self.assertEqual(effect, (5, gain, 9))
+        self.assertIs(is_effect(store, effect), True)
+        self.assertEqual(effect_of(store, changes_by(store, effect)), effect)
+        self.assertEqual(joined(effect, effect), (5, 2 * gain, 9))
+        self.assertEqual(mirrored(store, mirrored(store, effect)), effect)
+        self.assertEqual([passed(effect, level) for level in (4, 5, store)], [None, 9, 9])
+        self.assertEqual(levels_along(store, 5, changes_by(store, effect)), [5, 0, store, 9])
+
+    def test_a_refusal_keeps_the_very_thing(self):
+        thing = [1]
+        refusal = errors.Taken(thing)
+        thing.append(2)
+        self.assertIs(refusal.label, thing)
+
+
+if __name__ == "__main__":
+    unittest.main()

@@ -1,0 +1,1 @@
+"""Trudge: walks with a store of strength."""
