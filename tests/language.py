@@ -1,6 +1,6 @@
 """Reads the package's files and tells where they leave LANGUAGE.md, as far as single nodes show it.
 
-Held: L1, L2, L4 to L8, L10, L12, L14, L16, L17, L19, L20, L22, L25, in part. The rest is left to the reader.
+Held: L1 to L8, L10, L12, L14 to L17, L19, L20, L22, L25, in part. The rest is left to the reader.
 """
 
 import ast
@@ -45,6 +45,7 @@ def faults_of(source, package):
     faults = faults_of_text(source)
     if not docstring_alone(tree):
         faults.append(("L3", 1))
+    faults.extend(faults_of_top(tree))
     for node in ast.walk(tree):
         for rule in rules_broken(node, tree, package):
             faults.append((rule, getattr(node, "lineno", 0)))
@@ -70,6 +71,44 @@ def docstring_alone(tree):
     allowed = (ast.ImportFrom, ast.FunctionDef, ast.ClassDef, ast.Assign)
     body = tree.body[1:] if ast.get_docstring(tree) is not None else tree.body
     return all(isinstance(node, allowed) for node in body)
+
+
+def faults_of_top(tree):
+    """What is given at the top is plain, and no parameter or local is called like an import or a class."""
+    taken = set(imports_of(tree)) | {node.name for node in tree.body if isinstance(node, ast.ClassDef)}
+    faults = [("L3", node.lineno) for node in tree.body if isinstance(node, ast.Assign) and not is_plain(node.value)]
+    for node in ast.walk(tree):
+        bound = node.arg if isinstance(node, ast.arg) else None
+        if isinstance(node, ast.Name) and isinstance(node.ctx, ast.Store):
+            bound = node.id
+        if bound in taken:
+            faults.append(("L15", node.lineno))
+    return faults
+
+
+def is_plain(value):
+    if isinstance(value, ast.Dict):
+        return all(is_plain(part) for part in value.keys + value.values)
+    if isinstance(value, (ast.List, ast.Tuple)):
+        return all(is_plain(part) for part in value.elts)
+    return isinstance(value, (ast.Constant, ast.Name))
+
+
+def imports_of(tree):
+    """For each name that is imported the module from which it comes."""
+    return {alias.name: node.module for node in tree.body if isinstance(node, ast.ImportFrom) for alias in node.names}
+
+
+def modules_behind(name, drawn):
+    """All modules that one draws from, in whatever many steps; drawn has those of one step."""
+    met = set()
+    ahead = list(drawn[name])
+    while ahead:
+        module = ahead.pop()
+        if module not in met:
+            met.add(module)
+            ahead.extend(drawn.get(module, ()))
+    return met
 
 
 def rules_broken(node, tree, package):

@@ -1,11 +1,19 @@
-"""Point [2], of stage 1: what is handed in stays as it is, what is told is the asker's own."""
+"""Point [2]: what is handed in stays as it is, what is told is the asker's own."""
 
 import copy
 import unittest
 
 from trudge import errors
 from trudge.effects import changes_by, effect_of, is_effect, joined, mirrored, passed, repeated
+from trudge.highest import highest, trips_to
+from trudge.lands import land_of, turned_land
+from trudge.lids import is_lid
 from trudge.steps import levels_along, stepped
+from trudge.trips import arrival, backward, effect_by, end_of, length_of
+from walking import chain_of_fillings
+
+LAND = (4, [(0, 1, 9), (1, 0, -8), (1, 2, -3), (2, 2, 2), (0, 2, -20), (1, 3, 0)])
+TRIP = [([0, 1], 5), ([0, 2], 1), ([3], 7)]
 
 ASKINGS = (
     (stepped, (10, 4, 3)),
@@ -26,13 +34,54 @@ ASKINGS = (
     (repeated, (10, (3, -2, 6), 3)),
     (repeated, (10, (3, -2, 6), 10 ** 24)),
     (mirrored, (10, (3, -2, 6))),
+    (land_of, (LAND,)),
+    (turned_land, (LAND,)),
+    (end_of, (LAND, 0, TRIP)),
+    (length_of, (LAND, 0, TRIP)),
+    (effect_by, (LAND, 20, 0, TRIP)),
+    (arrival, (LAND, 20, 0, 3, TRIP)),
+    (backward, (TRIP,)),
+    (backward, ([],)),
+    (highest, (LAND, 20, [0, None, None, None])),
+    (highest, (LAND, 20, [20, 20, 20, 20])),
+    (highest, ((2, []), 20, [None, 3])),
+    (trips_to, (LAND, 20, [0, None, None, None])),
+    (trips_to, (LAND, 20, [20, 20, 20, None])),
+    (trips_to, (chain_of_fillings(12, 7), 7, [0] + [None] * 11)),
+    (trips_to, ((2, []), 20, [None, 3])),
+    (is_lid, (LAND, 20, [0, None, None, None], [20, 20, 20, 20])),
+    (is_lid, (LAND, 20, [0, None, None, None], [12, 20, 20, 20])),
+    (is_lid, (LAND, 20, [0, None, None, None], [[20], {}, [20], 20])),
+)
+REFUSED = (
+    (land_of, (5,)),
+    (land_of, ((3, [(0, 1, 2), [0, 1, 2]]),)),
+    (end_of, (LAND, 0, [([0], 1), ([0], 1)])),
+    (length_of, (LAND, 0, [([0], 1), ([], 1)])),
+    (effect_by, (LAND, 20, 0, [([0], 2)])),
+    (arrival, (LAND, 20, 0, 3, [([0, 1], 0)])),
 )
 
 
+def lists_within(thing):
+    """Each list and dict in a thing, those within others and within tuples too."""
+    found = [thing] if isinstance(thing, (list, dict)) else []
+    if isinstance(thing, (list, tuple)):
+        for part in thing:
+            found += lists_within(part)
+    if isinstance(thing, dict):
+        for part in thing.values():
+            found += lists_within(part)
+    return found
+
+
 def spoil(told):
-    if isinstance(told, list):
-        told.append("spoilt")
-        told[0] = "spoilt"
+    for found in lists_within(told):
+        if isinstance(found, dict):
+            found["spoilt"] = "spoilt"
+        else:
+            found.append("spoilt")
+            found[0] = "spoilt"
 
 
 class HandingTest(unittest.TestCase):
@@ -55,12 +104,19 @@ class HandingTest(unittest.TestCase):
             self.assertEqual(handed, ahead, ask)
             self.assertEqual(ask(*handed), kept, ask)
 
-    def test_told_lists_are_new(self):
+    def test_told_lists_are_new_and_none_stands_twice(self):
         for ask, handed in ASKINGS:
-            told = ask(*handed)
-            if isinstance(told, list):
-                self.assertIsNot(told, ask(*handed))
-                self.assertFalse([thing for thing in handed if thing is told])
+            # Both answers are kept, so that no list takes the place of another one that is gone.
+            both = (ask(*handed), ask(*handed))
+            told = [id(found) for found in lists_within(both)]
+            self.assertEqual(len(told), len(set(told)), ask)
+            self.assertFalse(set(told) & {id(found) for found in lists_within(handed)}, ask)
+
+    def test_what_is_refused_changes_nothing(self):
+        for ask, handed in REFUSED:
+            ahead = copy.deepcopy(handed)
+            self.assertRaises(errors.TrudgeError, ask, *handed)
+            self.assertEqual(handed, ahead, ask)
 
     def test_what_is_done_behind_the_call_changes_nothing(self):
         changes = [3, -7, 20]

@@ -1,9 +1,10 @@
 """The package's files keep to LANGUAGE.md, as far as tests/language.py reads it."""
 
+import ast
 import pathlib
 import unittest
 
-from language import PLAIN_NAME, faults_of
+from language import PLAIN_NAME, faults_of, imports_of, modules_behind
 
 PACKAGE = pathlib.Path(__file__).resolve().parent.parent / "trudge"
 
@@ -11,6 +12,7 @@ OUTSIDE = (
     ("L2", "from os.path import join\n"),
     ("L2", "from .steps import stepped\n"),
     ("L3", "print(1)\n"),
+    ("L3", "x = 10 ** 18\n"),
     ("L4", "def f(*xs):\n    return 1\n"),
     ("L5", "class A:\n    x = 1\n"),
     ("L6", "import sys\n"),
@@ -26,6 +28,9 @@ OUTSIDE = (
     ("L14", "# \u00e9\n"),
     ("L14", "def f(x):\n\treturn 1\n"),
     ("L15", "def f(min):\n    return 1\n"),
+    ("L15", "from trudge.steps import stepped\ndef f(stepped):\n    return 1\n"),
+    ("L15", "from trudge.steps import stepped\ndef f(x):\n    stepped = x\n"),
+    ("L15", "class Far:\n    pass\ndef f(x):\n    return [Far for Far in x]\n"),
     ("L17", "# what type it is\n"),
     ("L17", "def f(x):\n    return open(x)\n"),
     ("L19", "def f(x):\n    try:\n        return x[0]\n    except TypeError:\n        return 1\n"),
@@ -48,6 +53,21 @@ class LanguageTest(unittest.TestCase):
         for path in sorted(PACKAGE.rglob("*.py")):
             with self.subTest(path.name):
                 self.assertEqual(faults_of(path.read_text("utf-8"), "trudge"), [])
+
+    def test_each_name_comes_from_the_file_that_defines_it(self):
+        for path in sorted(PACKAGE.rglob("*.py")):
+            for name, module in imports_of(ast.parse(path.read_text("utf-8"))).items():
+                tree = ast.parse((PACKAGE.parent / (module.replace(".", "/") + ".py")).read_text("utf-8"))
+                defined = [getattr(node, "name", None) or node.targets[0].id for node in tree.body
+                           if isinstance(node, (ast.FunctionDef, ast.ClassDef, ast.Assign))]
+                self.assertIn(name, defined, (path.name, module))
+
+    def test_no_two_files_draw_from_one_another(self):
+        drawn = {}
+        for path in sorted(PACKAGE.rglob("*.py")):
+            drawn["trudge." + path.stem] = set(imports_of(ast.parse(path.read_text("utf-8"))).values())
+        for name in drawn:
+            self.assertNotIn(name, modules_behind(name, drawn))
 
     def test_what_is_outside_is_seen(self):
         for rule, source in OUTSIDE:

@@ -1,4 +1,4 @@
-"""Rows walked change by change, without the package: what the tests hold its answers against."""
+"""Rows, lands and trips walked without the package: what the tests hold its answers against."""
 
 import itertools
 import random
@@ -63,3 +63,165 @@ def drawn_rows(seed, many, longest, reach):
     draw = random.Random(seed)
     for number in range(many):
         yield [draw.randint(-reach, reach) for place in range(draw.randint(0, longest))]
+
+
+def every_way(many, reach):
+    return list(itertools.product(range(many), range(many), range(-reach, reach + 1)))
+
+
+def small_lands(many, most, reach):
+    for length in range(most + 1):
+        for ways in itertools.combinations_with_replacement(every_way(many, reach), length):
+            yield (many, list(ways))
+
+
+def drawn_land(draw, places, most, reach):
+    many = draw.randint(1, places)
+    near = draw.choice((reach, reach, min(reach, 3)))
+    return (many, [(draw.randrange(many), draw.randrange(many), draw.randint(-draw.choice((reach, near)), near))
+                   for number in range(draw.randint(0, most))])
+
+
+def drawn_table(draw, many, store):
+    levels = [draw.choice((None, 0, store, draw.randint(0, store), draw.randint(0, store))) for place in range(many)]
+    if draw.random() < 0.5:
+        # One place alone, so that the others are come to by ways.
+        alone = draw.randrange(many)
+        levels = [level if place == alone else None for place, level in enumerate(levels)]
+    return levels
+
+
+def every_table(many, store):
+    return [list(table) for table in itertools.product([None, *range(store + 1)], repeat=many)]
+
+
+def drawn_tasks(seed, many, places, most, reach, stores):
+    """Tuples (land, store, table)."""
+    draw = random.Random(seed)
+    for number in range(many):
+        land = drawn_land(draw, places, most, reach)
+        store = draw.choice(stores)
+        yield (land, store, drawn_table(draw, land[0], store))
+
+
+def great_tasks(seed, many):
+    """Tasks of lands and stores up to the bounds that the document tells."""
+    for number, reach in enumerate((1, 3, 10 ** 9, 10 ** 17, 10 ** 18)):
+        stores = (0, 10 ** 9, 10 ** 18, 10 ** 19 + 7, 10 ** 20)
+        for most in (12, 20, 40):
+            yield from drawn_tasks(repr((seed, number, most)), many, 12, most, reach, stores)
+
+
+def chain_of_fillings(many, store):
+    """A land where each place must be filled, one at a time, ahead of the next."""
+    ways = [(place, place, 1) for place in range(many)]
+    return (many, ways + [(place, place + 1, -store) for place in range(many - 1)])
+
+
+def highest_by_states(land, store, base):
+    """All walks gone through, level by level."""
+    met = {(place, level) for place, level in enumerate(base) if level is not None}
+    ahead = list(met)
+    while ahead:
+        place, level = ahead.pop()
+        for start, end, change in land[1]:
+            behind = (end, walked(store, level, [change]))
+            if start == place and behind[1] is not None and behind not in met:
+                met.add(behind)
+                ahead.append(behind)
+    return [max((level for here, level in met if here == place), default=None) for place in range(land[0])]
+
+
+def least_by_states(land, store, goal):
+    """All levels of all places from which a walk comes through, found from the goal on."""
+    through = {(place, level) for place in range(land[0]) for level in range(store + 1)
+               if goal[place] is not None and level >= goal[place]}
+    many = -1
+    while many != len(through):
+        many = len(through)
+        through |= {(start, level) for start, end, change in land[1] for level in range(store + 1)
+                    if (end, walked(store, level, [change])) in through}
+    return [min((level for here, level in through if here == place), default=None) for place in range(land[0])]
+
+
+def numbers_walked(trip):
+    """The numbers of the ways of a trip, each as often as it is walked."""
+    return [number for numbers, times in trip for number in numbers * times]
+
+
+def place_behind(land, place, trip):
+    """The end of a trip; fails where a part or a way doesn't keep to what the document tells of it."""
+    for numbers, times in trip:
+        begin = place
+        assert isinstance(numbers, list) and numbers and 1 <= times <= 10 ** 24, trip
+        for number in numbers:
+            assert 0 <= number < len(land[1]) and land[1][number][0] == place, trip
+            place = land[1][number][1]
+        assert times == 1 or place == begin, trip
+    return place
+
+
+def level_behind(land, store, level, trip):
+    """The arrival of a trip of any times, by the sums of its ways."""
+    for numbers, times in trip:
+        once = effect_by_sums(store, [land[1][number][2] for number in numbers])
+        many = None if once is None else repeated_by_rule(store, once, times)
+        if many is None or level < many[0]:
+            return None
+        level = min(level + many[1], many[2])
+    return level
+
+
+def is_lid_by_words(land, store, base, table):
+    for place, level in enumerate(base):
+        if level is not None and (table[place] is None or table[place] < level):
+            return False
+    for start, end, change in land[1]:
+        if table[start] is not None:
+            behind = walked(store, table[start], [change])
+            if behind is not None and (table[end] is None or table[end] < behind):
+                return False
+    return True
+
+
+def least_ahead(store, wanted, change):
+    """The least level of which the change makes the wanted one or more, of all there are."""
+    if store > 1000:
+        around = (0, wanted - change - 1, wanted - change, wanted - change + 1, store)
+        levels = sorted(level for level in around if 0 <= level <= store)
+    else:
+        levels = range(store + 1)
+    for level in levels:
+        behind = walked(store, level, [change])
+        if behind is not None and behind >= wanted:
+            return level
+    return None
+
+
+def is_floor_by_words(land, store, goal, table):
+    for place, level in enumerate(goal):
+        if level is not None and (table[place] is None or table[place] > level):
+            return False
+    for start, end, change in land[1]:
+        if table[end] is not None:
+            ahead = least_ahead(store, table[end], change)
+            if ahead is not None and (table[start] is None or table[start] > ahead):
+                return False
+    return True
+
+
+def put_otherwise(store, table):
+    """The tables that differ from this one at one place: a little, as far as can be, by None."""
+    for place, level in enumerate(table):
+        near = (None, 0, 1, store) + (() if level is None else (level - 1, level + 1))
+        for other in set(near) - {level}:
+            if other is None or 0 <= other <= store:
+                yield table[:place] + [other] + table[place + 1:]
+
+
+NO_TABLES = (
+    None, True, False, 0, 1, "", "01", b"01", (), (0, 0), {}, {0: 0, 1: 0}, {0, 1}, range(2), object(), int, len,
+    iter([0, 0]), ValueError(0, 0), [], [0], [None], [0, 0, 0], [None, None, None], [[0, 0]], [0, [0]], [[0], 0],
+    [0, True], [False, 0], [True, None], [0, "0"], ["", 0], [0, (0,)], [(), 0], [{}, 0], [0, object()], [0, int],
+    [0, -1], [-1, None], [0, 4], [4, None], [10 ** 5000, 0], [0, -10 ** 5000], [None, b"0"], [None, "None"],
+)
