@@ -5,10 +5,13 @@ import unittest
 
 from trudge import errors
 from trudge.effects import changes_by, effect_of, is_effect, joined, mirrored, passed, repeated
+from trudge.floors import is_floor
 from trudge.highest import highest, trips_to
 from trudge.lands import land_of, turned_land
+from trudge.least import least, trips_on
 from trudge.lids import is_lid
 from trudge.steps import levels_along, stepped
+from trudge.stores import least_store
 from trudge.trips import arrival, backward, effect_by, end_of, length_of
 from walking import chain_of_fillings
 
@@ -52,6 +55,18 @@ ASKINGS = (
     (is_lid, (LAND, 20, [0, None, None, None], [20, 20, 20, 20])),
     (is_lid, (LAND, 20, [0, None, None, None], [12, 20, 20, 20])),
     (is_lid, (LAND, 20, [0, None, None, None], [[20], {}, [20], 20])),
+    (least, (LAND, 20, [None, None, None, 20])),
+    (least, (LAND, 20, [0, 0, 0, 0])),
+    (least, ((2, []), 20, [None, 3])),
+    (trips_on, (LAND, 20, [None, None, 20, None])),
+    (trips_on, (LAND, 20, [0, 0, 0, None])),
+    (trips_on, (chain_of_fillings(12, 7), 7, [None] * 11 + [7])),
+    (trips_on, ((2, []), 20, [None, 3])),
+    (is_floor, (LAND, 20, [None, None, None, 20], [0, 0, 0, 0])),
+    (is_floor, (LAND, 20, [None, None, None, 20], [20, 20, 20, 20])),
+    (is_floor, (LAND, 20, [None, None, None, 20], [[0], {}, [0], 0])),
+    (least_store, (LAND, (0, 0), (2, 15))),
+    (least_store, (LAND, (2, 0), (0, 15))),
 )
 REFUSED = (
     (land_of, (5,)),
