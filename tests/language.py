@@ -1,6 +1,6 @@
 """Reads the package's files and tells where they leave LANGUAGE.md, as far as single nodes show it.
 
-Held: L1 to L8, L10, L12, L14 to L17, L19, L20, L22, L25, in part. The rest is left to the reader.
+Held: L1 to L8, L10, L12, L14 to L20, L22 to L25, L27, in part. The rest is left to the reader.
 """
 
 import ast
@@ -27,6 +27,8 @@ register mro elements open input version_info with_traceback add_note attrgetter
 credits delattr dir eval exec exit gc getattr globals hasattr help id importlib license locals methodcaller os quit
 setattr super type vars sys
 """.split())
+WALKED = {"zip", "enumerate", "reversed", "range", "items", "keys", "values"}
+WALKERS = {"list", "tuple", "dict", "sorted", "sum", "any", "all", "enumerate", "zip"}
 PLAIN_NAME = re.compile(r"[A-Za-z][A-Za-z0-9_]*$")
 STATEMENTS = (
     ast.Assign, ast.AugAssign, ast.If, ast.While, ast.For, ast.Return, ast.Break, ast.Continue, ast.Pass, ast.Raise,
@@ -46,6 +48,7 @@ def faults_of(source, package):
     if not docstring_alone(tree):
         faults.append(("L3", 1))
     faults.extend(faults_of_top(tree))
+    faults.extend(faults_of_walks(tree))
     for node in ast.walk(tree):
         for rule in rules_broken(node, tree, package):
             faults.append((rule, getattr(node, "lineno", 0)))
@@ -84,6 +87,41 @@ def faults_of_top(tree):
         if bound in taken:
             faults.append(("L15", node.lineno))
     return faults
+
+
+def faults_of_walks(tree):
+    """What may only be walked on the spot, and sets that are kept."""
+    faults = []
+    allowed = walked_at_once(tree)
+    for node in ast.walk(tree):
+        if isinstance(node, ast.Call) and called(node) in WALKED and id(node) not in allowed:
+            faults.append(("L23", node.lineno))
+        if isinstance(node, (ast.Assign, ast.Return)) and is_set(node.value):
+            faults.append(("L24", node.lineno))
+    return faults
+
+
+def called(node):
+    return getattr(node.func, "id", None) or getattr(node.func, "attr", None)
+
+
+def walked_at_once(tree):
+    """The ids of the nodes that stand where rule L23 lets a walk stand."""
+    places = []
+    for node in ast.walk(tree):
+        if isinstance(node, (ast.For, ast.comprehension)):
+            places.append(node.iter)
+        elif isinstance(node, ast.Call) and node.args:
+            joins = isinstance(node.func, ast.Attribute) and node.func.attr == "join"
+            if joins and isinstance(node.func.value, ast.Constant) or called(node) in WALKERS:
+                places.append(node.args[0])
+            elif called(node) in ("min", "max") and len(node.args) == 1:
+                places.append(node.args[0])
+    return {id(place) for place in places}
+
+
+def is_set(value):
+    return isinstance(value, ast.Set) or isinstance(value, ast.Call) and called(value) in ("set", "frozenset")
 
 
 def is_plain(value):

@@ -4,12 +4,16 @@ import copy
 import unittest
 
 from trudge import errors
+from trudge.boundless import boundless, is_open_lid, reaching
 from trudge.effects import changes_by, effect_of, is_effect, joined, mirrored, passed, repeated
 from trudge.floors import is_floor
 from trudge.highest import highest, trips_to
 from trudge.lands import land_of, turned_land
 from trudge.least import least, trips_on
 from trudge.lids import is_lid
+from trudge.plans import cheapest, paid
+from trudge.prices import costs_to, is_price_floor
+from trudge.soon import is_showing, soonest
 from trudge.steps import levels_along, stepped
 from trudge.stores import least_store
 from trudge.trips import arrival, backward, effect_by, end_of, length_of
@@ -17,6 +21,8 @@ from walking import chain_of_fillings
 
 LAND = (4, [(0, 1, 9), (1, 0, -8), (1, 2, -3), (2, 2, 2), (0, 2, -20), (1, 3, 0)])
 TRIP = [([0, 1], 5), ([0, 2], 1), ([3], 7)]
+PLAN = [("way", 0), ("buy", 2), ("way", 1), ("buy", 8), ("way", 4)]
+PRICES = [2, 1, None, 0]
 
 ASKINGS = (
     (stepped, (10, 4, 3)),
@@ -67,6 +73,31 @@ ASKINGS = (
     (is_floor, (LAND, 20, [None, None, None, 20], [[0], {}, [0], 0])),
     (least_store, (LAND, (0, 0), (2, 15))),
     (least_store, (LAND, (2, 0), (0, 15))),
+    (soonest, (LAND, 20, (0, 0), (2, 15), 200)),
+    (soonest, (LAND, 20, (0, 0), (0, 0), 7)),
+    (soonest, (LAND, 20, (2, 0), (0, 15), 7)),
+    (soonest, ((1, []), 20, (0, 0), (0, 15), 7)),
+    (is_showing, (LAND, 20, (0, 0), (2, 15), [[0, None, None, None], [None, 9, None, None]])),
+    (is_showing, (LAND, 20, (0, 0), (2, 15), [[[0], None, {}, None], [[]]])),
+    (boundless, (LAND, [0, None, None, None])),
+    (boundless, (LAND, [None, None, 7, 3])),
+    (boundless, ((2, []), [None, 3])),
+    (reaching, (LAND, [0, None, None, None], 2, 10 ** 18)),
+    (reaching, (LAND, [0, None, None, None], 0, 0)),
+    (reaching, (LAND, [None, None, 0, None], 0, 0)),
+    (reaching, (chain_of_fillings(12, 7), [0] + [None] * 11, 11, 50)),
+    (is_open_lid, (LAND, [0, None, None, None], ["any", "any", "any", "any"])),
+    (is_open_lid, (LAND, [0, None, None, None], ["any", 3, [], {}])),
+    (paid, (LAND, 20, PRICES, (0, 9), PLAN)),
+    (paid, (LAND, 20, PRICES, (0, 9), [])),
+    (costs_to, (LAND, 20, PRICES, (2, 13))),
+    (costs_to, ((2, []), 5, [1, None], (0, 3))),
+    (cheapest, (LAND, 20, PRICES, (0, 0), (2, 13))),
+    (cheapest, (LAND, 20, PRICES, (0, 0), (3, 20))),
+    (cheapest, (LAND, 20, PRICES, (2, 0), (0, 1))),
+    (cheapest, (LAND, 20, PRICES, (2, 0), (2, 0))),
+    (is_price_floor, ((2, []), 1, [1, None], (0, 1), [[1, 0], [None, None]])),
+    (is_price_floor, ((2, []), 1, [1, None], (0, 1), [[[1], 0], [{}, None]])),
 )
 REFUSED = (
     (land_of, (5,)),
@@ -75,6 +106,7 @@ REFUSED = (
     (length_of, (LAND, 0, [([0], 1), ([], 1)])),
     (effect_by, (LAND, 20, 0, [([0], 2)])),
     (arrival, (LAND, 20, 0, 3, [([0, 1], 0)])),
+    (paid, (LAND, 20, PRICES, (0, 9), PLAN + [("buy", 0)])),
 )
 
 

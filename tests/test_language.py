@@ -35,6 +35,11 @@ OUTSIDE = (
     ("L17", "def f(x):\n    return open(x)\n"),
     ("L19", "def f(x):\n    try:\n        return x[0]\n    except TypeError:\n        return 1\n"),
     ("L20", "def f(x):\n    return x is f\n"),
+    ("L23", "def f(x):\n    return reversed(x)\n"),
+    ("L23", "def f(x):\n    return [y for y in reversed(range(x))]\n"),
+    ("L23", "def f(x):\n    return [y for y in zip(x, range(3))]\n"),
+    ("L23", "def f(x):\n    return x.items()\n"),
+    ("L24", "def f(x):\n    y = set(x)\n    return 1\n"),
     ("L25", "def f(x):\n    x.sort()\n"),
     ("L27", "def f(x):\n    return 2 ** x\n"),
 )

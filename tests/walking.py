@@ -1,5 +1,6 @@
 """Rows, lands and trips walked without the package: what the tests hold its answers against."""
 
+import heapq
 import itertools
 import random
 
@@ -225,3 +226,158 @@ NO_TABLES = (
     [0, True], [False, 0], [True, None], [0, "0"], ["", 0], [0, (0,)], [(), 0], [{}, 0], [0, object()], [0, int],
     [0, -1], [-1, None], [0, 4], [4, None], [10 ** 5000, 0], [0, -10 ** 5000], [None, b"0"], [None, "None"],
 )
+
+
+def states_by_ways(land, store, begin, most):
+    """For each number of ways up to most the spots to which walks of just so many come."""
+    met = {begin}
+    found = [met]
+    for number in range(most):
+        met = {(end, walked(store, level, [change])) for place, level in met
+               for start, end, change in land[1] if start == place}
+        met = {spot for spot in met if spot[1] is not None}
+        found.append(met)
+    return found
+
+
+def table_of_spots(many, spots):
+    return [max((level for here, level in spots if here == place), default=None) for place in range(many)]
+
+
+def is_showing_by_words(land, store, begin, goal, rows):
+    if rows and (rows[0][begin[0]] is None or rows[0][begin[0]] < begin[1]):
+        return False
+    for row, behind in zip(rows, rows[1:]):
+        for start, end, change in land[1]:
+            level = None if row[start] is None else walked(store, row[start], [change])
+            if level is not None and (behind[end] is None or behind[end] < level):
+                return False
+    return not any(row[goal[0]] is not None and row[goal[0]] >= goal[1] for row in rows)
+
+
+def open_bound(land, base):
+    """What the document tells as the most that a level without a bound on the store can be."""
+    greatest = max([abs(change) for start, end, change in land[1]], default=0)
+    return max([level for level in base if level is not None], default=0) + (land[0] - 1) * greatest
+
+
+def places_on(land, places):
+    """The places themselves and all to which ways lead from them, whatever these take."""
+    met = set(places)
+    for number in range(land[0]):
+        met |= {end for start, end, change in land[1] if start in met}
+    return met
+
+
+def boundless_by_sums(land, base):
+    """What rises still behind as many ways as there are places has no bound, nor what lies behind it."""
+    open_places = set()
+    while True:
+        table = list(base)
+        for number in range(land[0] + 1):
+            ahead = list(table)
+            for start, end, change in land[1]:
+                if ahead[start] is not None and start not in open_places and ahead[start] + change >= 0:
+                    table[end] = max(ahead[start] + change, -1 if table[end] is None else table[end])
+        rising = {place for place in range(land[0]) if table[place] != ahead[place]} - open_places
+        if not rising:
+            return ["any" if place in open_places else table[place] for place in range(land[0])]
+        open_places = places_on(land, open_places | rising)
+
+
+def boundless_by_states(land, base, cap):
+    """All walks gone through, level by level, as far as the cap; what passes it has no bound."""
+    met = {(place, level) for place, level in enumerate(base) if level is not None}
+    ahead = list(met)
+    passed = set()
+    while ahead:
+        place, level = ahead.pop()
+        for start, end, change in land[1]:
+            behind = (end, level + change)
+            if start == place and behind[1] > cap:
+                passed.add(end)
+            elif start == place and behind[1] >= 0 and behind not in met:
+                met.add(behind)
+                ahead.append(behind)
+    open_places = places_on(land, passed)
+    return ["any" if place in open_places else level for place, level in enumerate(table_of_spots(land[0], met))]
+
+
+def is_at_least(one, other):
+    """Of levels without a bound: None is less than each number, "any" more."""
+    if one == "any" or other is None:
+        return True
+    return one is not None and other != "any" and one >= other
+
+
+def is_open_lid_by_words(land, base, table):
+    if not all(is_at_least(level, first) for level, first in zip(table, base)):
+        return False
+    for start, end, change in land[1]:
+        if table[start] == "any" and table[end] != "any":
+            return False
+        if table[start] not in (None, "any") and table[start] + change >= 0:
+            if not is_at_least(table[end], table[start] + change):
+                return False
+    return True
+
+
+def steps_on(land, store, prices, place, level):
+    """Each step of a plan that can be done from a spot: (step, place, level, cost)."""
+    for number, (start, end, change) in enumerate(land[1]):
+        if start == place and level + change >= 0:
+            yield (("way", number), end, min(store, level + change), 0)
+    if prices[place] is not None:
+        for many in range(1, store - level + 1):
+            yield (("buy", many), place, level + many, many * prices[place])
+
+
+def least_cost_by_plans(land, store, prices, begin, goal):
+    """All plans from one spot gone through, the cheaper ones first."""
+    ahead = [(0, begin)]
+    done = set()
+    while ahead:
+        cost, spot = heapq.heappop(ahead)
+        if spot[0] == goal[0] and spot[1] >= goal[1]:
+            return cost
+        if spot not in done:
+            done.add(spot)
+            for step, place, level, more in steps_on(land, store, prices, *spot):
+                heapq.heappush(ahead, (cost + more, (place, level)))
+    return None
+
+
+def costs_by_plans(land, store, prices, goal):
+    return [[least_cost_by_plans(land, store, prices, (place, level), goal) for level in range(store + 1)]
+            for place in range(land[0])]
+
+
+def is_price_floor_by_words(land, store, prices, goal, table):
+    if any(table[goal[0]][level] != 0 for level in range(goal[1], store + 1)):
+        return False
+    for start, end, change in land[1]:
+        for level in range(store + 1):
+            behind = walked(store, level, [change])
+            if behind is not None and table[end][behind] is not None:
+                if table[start][level] is None or table[start][level] > table[end][behind]:
+                    return False
+    for place, price in enumerate(prices):
+        for level in range(store):
+            if price is not None and table[place][level + 1] is not None:
+                if table[place][level] is None or table[place][level] > table[place][level + 1] + price:
+                    return False
+    return True
+
+
+def drawn_prices(draw, many, greatest):
+    return [draw.choice((None, 0, 1, greatest, draw.randint(0, greatest), None)) for place in range(many)]
+
+
+def price_tasks(seed, many, places, most, reach, stores, greatest):
+    """Tuples (land, store, prices, goal)."""
+    draw = random.Random(seed)
+    for number in range(many):
+        land = drawn_land(draw, places, most, reach)
+        store = draw.choice(stores)
+        goal = (draw.randrange(land[0]), draw.choice((0, store, draw.randint(0, store))))
+        yield (land, store, drawn_prices(draw, land[0], greatest), goal)

@@ -8,38 +8,19 @@ often at most as there are places.
 """
 
 from trudge.effects import GAIN, TOP, effect_of
-from trudge.lands import END, MANY, START, WAYS, changes_of
+from trudge.lands import END, MANY, WAYS, changes_of
+from trudge.rows import BY, FROM, RISEN, TABLE, first_row, row_behind, walk_to
 from trudge.steps import levels_along
-from trudge.tables import behind_way, is_more
 from trudge.trips import NUMBERS, TIMES, end_of
-
-# A row: its table, and for each place the number of the way that made it rise there, or None.
-TABLE = 0
-RISEN = 1
-
-# A walk: the place where it begins and its ways. Likewise a road: where it begins, and its parts.
-FROM = 0
-BY = 1
-
-
-def row_behind(land, store, table):
-    higher = list(table)
-    risen = [None] * land[MANY]
-    for number, way in enumerate(land[WAYS]):
-        level = behind_way(store, table, way)
-        if is_more(level, higher[way[END]]):
-            higher[way[END]] = level
-            risen[way[END]] = number
-    return (higher, risen)
 
 
 def rows_from(land, store, table):
     # The rows that rise above the one ahead, one more at most than there are places.
     rows = []
-    row = (list(table), [None] * land[MANY])
+    row = first_row(table)
     while len(rows) < land[MANY]:
         rows.append(row)
-        row = row_behind(land, store, row[TABLE])
+        row = row_behind(land, store, row[TABLE], row[TABLE])
         if row[TABLE] == rows[-1][TABLE]:
             return rows
     rows.append(row)
@@ -48,17 +29,6 @@ def rows_from(land, store, table):
 
 def still_rises(land, rows):
     return len(rows) > land[MANY]
-
-
-def walk_to(land, rows, place):
-    here = place
-    numbers = []
-    for row in reversed(rows):
-        number = row[RISEN][here]
-        if number is not None:
-            numbers.append(number)
-            here = land[WAYS][number][START]
-    return (here, list(reversed(numbers)))
 
 
 def rising_walk(land, rows):
@@ -94,7 +64,8 @@ def filling_parts(land, store, level, walk):
 
 
 def settled(land, store, base):
-    # The rows that rise no more, and the roads to the places where these begin.
+    # The rows that rise no more, and the roads to the places where these begin: a road is like a
+    # walk, but has parts in the place of numbers.
     table = list(base)
     roads = [(place, []) for place in range(land[MANY])]
     rows = rows_from(land, store, table)

@@ -51,3 +51,8 @@ def turned_land(land):
 
 def changes_of(land, numbers):
     return [land[WAYS][number][CHANGE] for number in numbers]
+
+
+def most_taken(land):
+    # No shortest walk from one place to another has as many ways as there are places.
+    return (land[MANY] - 1) * max([abs(way[CHANGE]) for way in land[WAYS]], default=0)

@@ -8,8 +8,12 @@ def covers(table, base):
     return not any([is_more(level, lid) for level, lid in zip(base, table)])
 
 
+def leads_within(land, store, table, lid):
+    return not any([is_more(behind_way(store, table, way), lid[way[END]]) for way in land[WAYS]])
+
+
 def is_closed(land, store, table):
-    return not any([is_more(behind_way(store, table, way), table[way[END]]) for way in land[WAYS]])
+    return leads_within(land, store, table, table)
 
 
 def is_lid(land, store, base, table):

@@ -1,23 +1,17 @@
-"""The least store with which a walk comes from one spot, a tuple (place, level), to another one."""
+"""The least store with which a walk comes from one spot to another one."""
 
 from trudge.highest import highest
-from trudge.lands import CHANGE, MANY, WAYS
-
-PLACE = 0
-LEVEL = 1
+from trudge.lands import MANY, most_taken
+from trudge.spots import LEVEL, base_at, has_enough
 
 
 def comes_through(land, store, begin, goal):
-    base = [None] * land[MANY]
-    base[begin[PLACE]] = begin[LEVEL]
-    level = highest(land, store, base)[goal[PLACE]]
-    return level is not None and level >= goal[LEVEL]
+    return has_enough(highest(land, store, base_at(land[MANY], begin)), goal)
 
 
 def store_enough(land, begin, goal):
     # Who once has this full store comes by the shortest walk to the goal, whatever its ways take.
-    greatest = max([abs(way[CHANGE]) for way in land[WAYS]], default=0)
-    return max(begin[LEVEL], goal[LEVEL] + (land[MANY] - 1) * greatest)
+    return max(begin[LEVEL], goal[LEVEL] + most_taken(land))
 
 
 def least_store(land, begin, goal):
