@@ -137,6 +137,15 @@ def imports_of(tree):
     return {alias.name: node.module for node in tree.body if isinstance(node, ast.ImportFrom) for alias in node.names}
 
 
+def methods_and_values(tree):
+    """The names of the methods of all classes of a file, and those of the values of its objects."""
+    classes = [node for node in ast.walk(tree) if isinstance(node, ast.ClassDef)]
+    methods = [part.name for node in classes for part in node.body if isinstance(part, ast.FunctionDef)]
+    values = [part.attr for node in classes for part in ast.walk(node)
+              if isinstance(part, ast.Attribute) and isinstance(part.ctx, ast.Store)]
+    return (methods, values)
+
+
 def modules_behind(name, drawn):
     """All modules that one draws from, in whatever many steps; drawn has those of one step."""
     met = set()

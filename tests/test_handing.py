@@ -13,7 +13,9 @@ from trudge.least import least, trips_on
 from trudge.lids import is_lid
 from trudge.plans import cheapest, paid
 from trudge.prices import costs_to, is_price_floor
+from trudge.shares import needs_of, shared
 from trudge.soon import is_showing, soonest
+from trudge.springs import highest_by, is_spring_lid, trip_by
 from trudge.steps import levels_along, stepped
 from trudge.stores import least_store
 from trudge.trips import arrival, backward, effect_by, end_of, length_of
@@ -23,6 +25,9 @@ LAND = (4, [(0, 1, 9), (1, 0, -8), (1, 2, -3), (2, 2, 2), (0, 2, -20), (1, 3, 0)
 TRIP = [([0, 1], 5), ([0, 2], 1), ([3], 7)]
 PLAN = [("way", 0), ("buy", 2), ("way", 1), ("buy", 8), ("way", 4)]
 PRICES = [2, 1, None, 0]
+SPRINGS = [(2, 4), (0, 11), (3, 2)]
+BASE = [0, None, None, None]
+WALKERS = [((2, 0), (2, 20)), ((0, 0), (3, 20)), ((2, 3), (2, 5))]
 
 ASKINGS = (
     (stepped, (10, 4, 3)),
@@ -98,6 +103,21 @@ ASKINGS = (
     (cheapest, (LAND, 20, PRICES, (2, 0), (2, 0))),
     (is_price_floor, ((2, []), 1, [1, None], (0, 1), [[1, 0], [None, None]])),
     (is_price_floor, ((2, []), 1, [1, None], (0, 1), [[[1], 0], [{}, None]])),
+    (highest_by, (LAND, 20, SPRINGS, BASE)),
+    (highest_by, (LAND, 20, [], [None, 3, None, 5])),
+    (highest_by, ((2, []), 20, [(0, 1), (0, 1), (1, 1)], [None, 3])),
+    (trip_by, (LAND, 20, SPRINGS, BASE, 3, 2)),
+    (trip_by, (LAND, 20, SPRINGS, BASE, 6, 3)),
+    (trip_by, (LAND, 20, SPRINGS, BASE, 0, 3)),
+    (trip_by, (LAND, 20, SPRINGS, [None, None, 4, None], 2, 3)),
+    (trip_by, (chain_of_fillings(9, 7), 7, [(8, 1), (0, 1), (4, 2)], [0] + [None] * 8, 7, 8)),
+    (is_spring_lid, (LAND, 20, [(2, 4)], BASE, [[20, 20, 20, 20], [20, 20, 20, 20]])),
+    (is_spring_lid, (LAND, 20, [(2, 4)], BASE, [[20, 20, 20, 20], [0, 20, {}, []]])),
+    (needs_of, ((1, []), 20, [(0, 3), (0, 3), (0, 5)], ((0, 0), (0, 5)))),
+    (needs_of, ((1, []), 20, [], ((0, 0), (0, 5)))),
+    (shared, (LAND, 20, SPRINGS, WALKERS)),
+    (shared, ((1, []), 20, [(0, 3), (0, 5)], [((0, 0), (0, 3)), ((0, 0), (0, 5))])),
+    (shared, ((1, []), 20, [(0, 3), (0, 5)], [((0, 0), (0, 5)), ((0, 0), (0, 5)), ((0, 0), (0, 5))])),
 )
 REFUSED = (
     (land_of, (5,)),

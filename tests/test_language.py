@@ -4,7 +4,7 @@ import ast
 import pathlib
 import unittest
 
-from language import PLAIN_NAME, faults_of, imports_of, modules_behind
+from language import FOREIGN, METHODS, PLAIN_NAME, faults_of, imports_of, methods_and_values, modules_behind
 
 PACKAGE = pathlib.Path(__file__).resolve().parent.parent / "trudge"
 
@@ -73,6 +73,18 @@ class LanguageTest(unittest.TestCase):
             drawn["trudge." + path.stem] = set(imports_of(ast.parse(path.read_text("utf-8"))).values())
         for name in drawn:
             self.assertNotIn(name, modules_behind(name, drawn))
+
+    def test_no_name_is_a_method_here_and_a_value_there(self):
+        methods = set()
+        values = set()
+        for path in sorted(PACKAGE.rglob("*.py")):
+            found = methods_and_values(ast.parse(path.read_text("utf-8")))
+            methods |= set(found[0])
+            values |= set(found[1])
+        self.assertFalse(methods & values)
+        self.assertFalse((methods | values) & (FOREIGN | METHODS))
+        self.assertIn("say", methods)
+        self.assertIn("label", values)
 
     def test_what_is_outside_is_seen(self):
         for rule, source in OUTSIDE:

@@ -381,3 +381,96 @@ def price_tasks(seed, many, places, most, reach, stores, greatest):
         store = draw.choice(stores)
         goal = (draw.randrange(land[0]), draw.choice((0, store, draw.randint(0, store))))
         yield (land, store, drawn_prices(draw, land[0], greatest), goal)
+
+
+def states_with_springs(land, store, springs, base):
+    """All walks gone through, level by level: tuples (place, level, set of the springs that were used)."""
+    met = {(place, level, 0) for place, level in enumerate(base) if level is not None}
+    ahead = list(met)
+    while ahead:
+        place, level, used = ahead.pop()
+        found = [(end, walked(store, level, [change]), used) for start, end, change in land[1] if start == place]
+        found += [(place, min(store, level + gift), used + 2 ** number) for number, (spring, gift) in enumerate(springs)
+                  if spring == place and used // 2 ** number % 2 == 0]
+        for state in found:
+            if state[1] is not None and state not in met:
+                met.add(state)
+                ahead.append(state)
+    return met
+
+
+def highest_by_by_states(land, store, springs, base):
+    met = states_with_springs(land, store, springs, base)
+    return [table_of_spots(land[0], [(place, level) for place, level, used in met if used == some])
+            for some in range(2 ** len(springs))]
+
+
+def walked_with_springs(land, store, springs, place, level, trip):
+    """(place, level, set of the springs that were used); fails where a trip with springs is none."""
+    used = 0
+    for part in trip:
+        if part[0] == "use":
+            spring, gift = springs[part[1]]
+            assert spring == place and used // 2 ** part[1] % 2 == 0, trip
+            used += 2 ** part[1]
+            level = min(store, level + gift)
+        else:
+            place = place_behind(land, place, [part])
+            level = level_behind(land, store, level, [part])
+            assert level is not None, trip
+    return (place, level, used)
+
+
+def is_spring_lid_by_words(land, store, springs, base, tables):
+    if not all(is_at_least(level, first) for level, first in zip(tables[0], base)):
+        return False
+    if not all(is_lid_by_words(land, store, [None] * land[0], table) for table in tables):
+        return False
+    for some, table in enumerate(tables):
+        for number, (place, gift) in enumerate(springs):
+            if some // 2 ** number % 2 == 0 and table[place] is not None:
+                if not is_at_least(tables[some + 2 ** number][place], min(store, table[place] + gift)):
+                    return False
+    return True
+
+
+def drawn_springs(draw, land, most, greatest):
+    return [(draw.randrange(land[0]), draw.choice((1, greatest, draw.randint(1, greatest))))
+            for number in range(draw.randint(0, most))]
+
+
+def spring_tasks(seed, many, places, ways, reach, stores, most):
+    """Tuples (land, store, springs, base)."""
+    draw = random.Random(seed)
+    for land, store, base in drawn_tasks(seed, many, places, ways, reach, stores):
+        yield (land, store, drawn_springs(draw, land, most, max(1, min(reach, 10 ** 18))), base)
+
+
+def great_spring_tasks(seed, many):
+    stores = (0, 10 ** 9, 10 ** 18, 10 ** 20)
+    for number, reach in enumerate((1, 10 ** 9, 10 ** 18)):
+        for ways in (8, 16):
+            yield from spring_tasks(repr((seed, number, ways)), many, 9, ways, reach, stores, 4)
+        yield from spring_tasks(repr((seed, number)), many, 12, 40, reach, stores, 1)
+
+
+def comes_through_with(land, store, springs, some, walker):
+    """Whether a walker who may use the springs of a set comes through, all walks gone through."""
+    (place, level), (end, enough) = walker
+    allowed = [spring for number, spring in enumerate(springs) if some // 2 ** number % 2 == 1]
+    base = [level if here == place else None for here in range(land[0])]
+    return any(here == end and had >= enough for here, had, used in states_with_springs(land, store, allowed, base))
+
+
+def needs_by_trying(land, store, springs, walker):
+    enough = [some for some in range(2 ** len(springs)) if comes_through_with(land, store, springs, some, walker)]
+    return [some for some in enough if not any(other != some and other & some == other for other in enough)]
+
+
+def shares_by_trying(many_springs, needs):
+    """Each list of sets tried, in row; None where none is one of shares."""
+    for sets in itertools.product(range(2 ** many_springs), repeat=len(needs)):
+        apart = all(one & other == 0 for one, other in itertools.combinations(sets, 2))
+        if apart and all(some in need for some, need in zip(sets, needs)):
+            return list(sets)
+    return None

@@ -4,7 +4,7 @@ from trudge.lands import MANY
 from trudge.lids import covers, leads_within
 from trudge.rows import BY, TABLE, first_row, row_behind, walk_to
 from trudge.spots import PLACE, base_at, has_enough
-from trudge.tables import is_table
+from trudge.tables import are_tables
 
 
 def soonest(land, store, begin, goal, most):
@@ -16,10 +16,6 @@ def soonest(land, store, begin, goal, most):
     if not has_enough(tables[-1], goal):
         return ("not", tables)
     return ("through", walk_to(land, rows, goal[PLACE])[BY], tables[:-1])
-
-
-def are_tables(many, store, thing):
-    return isinstance(thing, list) and all([is_table(many, store, table) for table in thing])
 
 
 def is_showing(land, store, begin, goal, rows):

@@ -6,6 +6,10 @@ def is_whole(thing):
     return isinstance(thing, int) and not isinstance(thing, bool)
 
 
+def is_store(thing):
+    return is_whole(thing) and 0 <= thing <= 10 ** 20
+
+
 def is_level(store, thing):
     return is_whole(thing) and 0 <= thing <= store
 

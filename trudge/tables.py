@@ -10,6 +10,10 @@ def is_table(many, store, thing):
     return all([level is None or is_level(store, level) for level in thing])
 
 
+def are_tables(many, store, thing):
+    return isinstance(thing, list) and all([is_table(many, store, table) for table in thing])
+
+
 def is_more(one, other):
     return one is not None and (other is None or one > other)
 
